@@ -1,0 +1,1 @@
+"""Kindturn: kinds of things, and turnings that keep things one to one."""
