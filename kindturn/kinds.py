@@ -17,6 +17,12 @@ def count(kind, sizes):
 
 
 def part(kind, path):
+    return parts_along(kind, path)[-1]
+
+
+def parts_along(kind, path):
+    """The kind itself and each part that the path leads into, the one at its end last."""
+    parts = [kind]
     found = kind
     for step in path:
         # A name holds a number where an either holds its first kind, and a step below nought would
@@ -24,4 +30,5 @@ def part(kind, path):
         if found[0] not in ("either", "both") or step not in (0, 1):
             raise NoTurning("there is no part at this path")
         found = found[1 + step]
-    return found
+        parts.append(found)
+    return parts

@@ -113,6 +113,58 @@ class Form(unittest.TestCase):
         for node in each_node(ast.arguments):
             self.assertEqual((node.vararg, node.kwarg, node.kwonlyargs, node.posonlyargs), (None, None, [], []))
 
+    def test_assignments_have_one_plain_target(self):
+        for node in each_node(ast.Assign):
+            self.assertEqual(len(node.targets), 1)
+            self.assertNotIsInstance(node.targets[0], (ast.Tuple, ast.List))
+
+    def test_comprehensions_have_one_walk(self):
+        for node in each_node(ast.ListComp):
+            self.assertEqual(len(node.generators), 1)
+            self.assertLessEqual(len(node.generators[0].ifs), 1)
+
+    def test_exponents_are_written(self):
+        for node in each_node(ast.BinOp):
+            if isinstance(node.op, ast.Pow):
+                self.assertIsInstance(node.right, ast.Constant)
+
+    def test_what_is_walked_on_the_spot(self):
+        walks = {"zip", "enumerate", "reversed", "range"}
+        around = ["list", "tuple", "dict", "sorted", "sum", "any", "all", "enumerate", "zip", "min", "max"]
+        allowed = [node.iter for node in each_node(ast.For, ast.comprehension)]
+        for node in each_node(ast.Call):
+            if isinstance(node.func, ast.Name) and node.func.id in around:
+                allowed += node.args[:1]
+        places = {(ast.dump(node, include_attributes=True)) for node in allowed}
+        for node in each_node(ast.Call):
+            if isinstance(node.func, ast.Name) and node.func.id in walks:
+                self.assertIn(ast.dump(node, include_attributes=True), places)
+
+    def test_no_local_is_called_like_an_import_or_a_class(self):
+        for path, text in sources().items():
+            tree = ast.parse(text)
+            taken = {name.asname or name.name for row in tree.body if isinstance(row, ast.ImportFrom) for name in row.names}
+            taken |= {row.name for row in tree.body if isinstance(row, ast.ClassDef)}
+            for node in ast.walk(tree):
+                if isinstance(node, ast.arg):
+                    self.assertNotIn(node.arg, taken, path.name)
+                if isinstance(node, ast.Name) and isinstance(node.ctx, ast.Store):
+                    self.assertNotIn(node.id, taken, path.name)
+
+    def test_each_name_is_bound_once_at_the_top(self):
+        for path, text in sources().items():
+            bound = []
+            for row in ast.parse(text).body:
+                if isinstance(row, ast.ImportFrom):
+                    bound += [name.asname or name.name for name in row.names]
+                elif isinstance(row, ast.Assign):
+                    bound += [target.id for target in row.targets]
+                elif isinstance(row, (ast.FunctionDef, ast.ClassDef)):
+                    bound.append(row.name)
+                else:
+                    self.assertIsInstance(row, ast.Expr)
+            self.assertEqual(len(bound), len(set(bound)), path.name)
+
     def test_methods(self):
         own = [node.name for node in each_node(ast.FunctionDef)]
         for node in each_node(ast.Call):
